@@ -1,0 +1,1 @@
+"""Come to rest: hands that lead a world to a wished state."""
