@@ -73,6 +73,30 @@ def first_state(kind):
     return tuple([field[1][0] for field in kind.fields])
 
 
+def place_of(kind, field):
+    # None where the kind hasn't the field.
+    fields = [pair[0] for pair in kind.fields]
+    return fields.index(field) if field in fields else None
+
+
+def has_value(kind, field, value):
+    place = place_of(kind, field)
+    return place is not None and value in kind.fields[place][1]
+
+
+def value_in(kind, state, field):
+    # Also of what is wished: None where there is no state, no such field, or nothing is cared for.
+    place = place_of(kind, field)
+    if state is None or place is None:
+        return None
+    return state[place]
+
+
+def with_value(kind, state, field, value):
+    place = place_of(kind, field)
+    return state[:place] + (value,) + state[place + 1:]
+
+
 def are_kinds(things):
     if not isinstance(things, list) or len(things) == 0:
         return False

@@ -29,6 +29,9 @@ WORDS = re.compile(
     r"\b(type|typing|typing_extensions|enum|Enum|IntEnum|StrEnum|Flag|IntFlag|Generic|Protocol|ABC|ABCMeta"
     r"|namedtuple|NamedTuple|TypedDict|TYPE_CHECKING|abstractmethod)\b|dataclass|overload|contextmanager"
 )
+WALKED = "zip enumerate reversed range".split()
+WALKED_METHODS = "items keys values".split()
+WALKERS = "list tuple dict sorted sum any all enumerate zip min max".split()
 UNUSED = "register mro elements open input version_info with_traceback add_note".split()
 
 
@@ -42,6 +45,17 @@ def tree_of(path):
 
 def nodes(kind):
     return [(path.name, node) for path in files() for node in ast.walk(tree_of(path)) if isinstance(node, kind)]
+
+
+def with_parents(path):
+    tree = tree_of(path)
+    parents = {child: node for node in ast.walk(tree) for child in ast.iter_child_nodes(node)}
+    return [(node, parents.get(node)) for node in ast.walk(tree)], parents
+
+
+def called(node):
+    """The name of Python's own, or of the program's, that a call calls."""
+    return node.func.id if isinstance(node, ast.Call) and isinstance(node.func, ast.Name) else None
 
 
 def is_docstring(body, node):
@@ -180,6 +194,70 @@ class Language(unittest.TestCase):
             for word in ast.walk(node.type):
                 if isinstance(word, ast.Name):
                     self.assertNotIn(word.id, ["Exception", "TypeError"], (name, node.lineno, "L19"))
+
+    def test_locals_are_not_called_like_classes_and_imports(self):
+        for path in files():
+            tree = tree_of(path)
+            taken = [node.name for node in tree.body if isinstance(node, ast.ClassDef)]
+            taken += [alias.name for node in tree.body if isinstance(node, ast.ImportFrom) for alias in node.names]
+            for node in ast.walk(tree):
+                if isinstance(node, ast.arg):
+                    self.assertNotIn(node.arg, taken, (path.name, node.lineno, "L15"))
+                if isinstance(node, ast.Name) and isinstance(node.ctx, ast.Store):
+                    self.assertNotIn(node.id, taken, (path.name, node.lineno, "L15"))
+
+    def test_classes_are_called_or_asked_for(self):
+        classes = [node.name for _, node in nodes(ast.ClassDef)]
+        for path in files():
+            pairs, parents = with_parents(path)
+            for node, parent in pairs:
+                if not isinstance(node, ast.Name) or node.id not in classes:
+                    continue
+                if isinstance(parent, ast.Tuple):
+                    parent = parents[parent]
+                right = isinstance(parent, (ast.ClassDef, ast.ExceptHandler, ast.Raise)) or called(parent) == "isinstance"
+                right = right or isinstance(parent, ast.Call) and parent.func == node
+                right = right or isinstance(parent, ast.Attribute) and parent.attr == "__init__"
+                self.assertTrue(right, (path.name, node.lineno, node.id, "L18"))
+
+    def test_walked_on_the_spot(self):
+        for path in files():
+            pairs, _ = with_parents(path)
+            for node, parent in pairs:
+                method = isinstance(node, ast.Call) and isinstance(node.func, ast.Attribute) and node.func.attr
+                if called(node) not in WALKED and method not in WALKED_METHODS:
+                    continue
+                right = isinstance(parent, (ast.For, ast.comprehension)) and parent.iter == node
+                right = right or called(parent) in WALKERS and parent.args[0] == node
+                self.assertTrue(right, (path.name, node.lineno, "L23"))
+
+    def test_sets_are_asked_on_the_spot(self):
+        for path in files():
+            pairs, parents = with_parents(path)
+            for node, parent in pairs:
+                if not isinstance(node, ast.Set) and called(node) not in ("set", "frozenset"):
+                    continue
+                while isinstance(parent, ast.BinOp):
+                    parent = parents[parent]
+                right = isinstance(parent, ast.Compare) or called(parent) in ("sorted", "len") and not parent.keywords
+                self.assertTrue(right, (path.name, node.lineno, "L24"))
+
+    def test_keywords_at_pythons_own(self):
+        right = {"sorted": ["key", "reverse"], "min": ["key", "default"], "max": ["key", "default"], "sum": ["start"],
+                 "enumerate": ["start"], "zip": ["strict"]}
+        for name, node in nodes(ast.Call):
+            if called(node) in PYTHONS_OWN:
+                for keyword in node.keywords:
+                    self.assertIn(keyword.arg, right.get(called(node), []), (name, node.lineno, "L22"))
+
+    def test_texts_and_inits(self):
+        for name, node in nodes(ast.Constant):
+            if isinstance(node.value, str):
+                self.assertNotIn("%", node.value, (name, node.lineno, "L27"))
+        for name, node in nodes(ast.FunctionDef):
+            if node.name == "__init__":
+                for row in ast.walk(node):
+                    self.assertFalse(isinstance(row, ast.Return) and row.value, (name, node.lineno, "L28"))
 
 
 if __name__ == "__main__":
