@@ -1,7 +1,7 @@
 """Conditions: what holds of a situation, a tuple (kind's name, what is wished, owner's state, own state)."""
 
 from cometorest.errors import NoRule
-from cometorest.kinds import is_name, place_of, value_in
+from cometorest.kinds import has_value, is_name, place_of, value_in
 
 LEAST_CONDITIONS = 2
 
@@ -26,10 +26,16 @@ class Always(Condition):
     def holds(self, kinds, situation):
         return True
 
+    def suits(self, kinds, kind):
+        return True
+
 
 class Wanted(Condition):
     def holds(self, kinds, situation):
         return situation[1] is not None
+
+    def suits(self, kinds, kind):
+        return True
 
 
 class Is(Condition):
@@ -40,6 +46,9 @@ class Is(Condition):
 
     def holds(self, kinds, situation):
         return value_in(kinds.of(situation[0]), situation[3], self.field) == self.value
+
+    def suits(self, kinds, kind):
+        return has_value(kind, self.field, self.value)
 
 
 class Meets(Condition):
@@ -54,6 +63,9 @@ class Meets(Condition):
         wished = value_in(kind, situation[1], self.field)
         return wished is None or wished == value_in(kind, situation[3], self.field)
 
+    def suits(self, kinds, kind):
+        return place_of(kind, self.field) is not None
+
 
 class Owner(Condition):
     def __init__(self, field, value):
@@ -67,6 +79,9 @@ class Owner(Condition):
             return False
         return value_in(kinds.of(owner), situation[2], self.field) == self.value
 
+    def suits(self, kinds, kind):
+        return kind.owner is not None and has_value(kinds.of(kind.owner), self.field, self.value)
+
 
 class Not(Condition):
     def __init__(self, condition):
@@ -77,6 +92,9 @@ class Not(Condition):
     def holds(self, kinds, situation):
         return not self.condition.holds(kinds, situation)
 
+    def suits(self, kinds, kind):
+        return self.condition.suits(kinds, kind)
+
 
 class Both(Condition):
     def __init__(self, conditions):
@@ -86,6 +104,9 @@ class Both(Condition):
     def holds(self, kinds, situation):
         return all([condition.holds(kinds, situation) for condition in self.conditions])
 
+    def suits(self, kinds, kind):
+        return all([condition.suits(kinds, kind) for condition in self.conditions])
+
 
 class Either(Condition):
     def __init__(self, conditions):
@@ -94,3 +115,6 @@ class Either(Condition):
 
     def holds(self, kinds, situation):
         return any([condition.holds(kinds, situation) for condition in self.conditions])
+
+    def suits(self, kinds, kind):
+        return all([condition.suits(kinds, kind) for condition in self.conditions])

@@ -18,6 +18,10 @@ def is_whole(thing):
     return isinstance(thing, int) and not isinstance(thing, bool)
 
 
+def is_whole_from(least, thing):
+    return is_whole(thing) and thing >= least
+
+
 def are_unlike_names(things):
     # Only names may reach the set: it takes no lists and dicts.
     return all([is_name(thing) for thing in things]) and len(set(things)) == len(things)
@@ -71,6 +75,11 @@ def states(kind):
 
 def first_state(kind):
     return tuple([field[1][0] for field in kind.fields])
+
+
+def is_state(kind, thing):
+    # Names alone are held against states: other things may say that they are equal to anything.
+    return isinstance(thing, tuple) and all([is_name(value) for value in thing]) and thing in states(kind)
 
 
 def place_of(kind, field):

@@ -1,7 +1,7 @@
 """Names of things: kinds and numbers by turns, each owner ahead of what it owns."""
 
 from cometorest.errors import NoName
-from cometorest.kinds import is_whole
+from cometorest.kinds import is_name, is_whole
 
 FIGURES = "0123456789"
 MOST_FIGURES = 6
@@ -16,27 +16,25 @@ def is_written_number(text):
     return all([sign in FIGURES for sign in text])
 
 
-def words_of(name):
-    if not isinstance(name, str):
-        raise NoName("a thing's name is a text")
-    words = name.split(".")
+def has_form(thing):
+    if not isinstance(thing, str):
+        return False
+    words = thing.split(".")
     if len(words) % 2 != 0:
-        raise NoName("a thing's name has kinds and numbers by turns")
-    return words
+        return False
+    return all([is_name(word) for word in words[::2]]) and all([is_written_number(word) for word in words[1::2]])
 
 
 def parts_of(kinds, name):
-    words = words_of(name)
+    if not has_form(name):
+        raise NoName("a thing's name has kinds and numbers by turns, with points between")
+    words = name.split(".")
     above = None
-    for place in range(0, len(words), 2):
-        if kinds.of(words[place]).owner != above:
+    for word in words[::2]:
+        if kinds.of(word).owner != above:
             raise NoName("each kind in a thing's name stands behind its owner's")
-        if not is_written_number(words[place + 1]):
-            raise NoName("a number is one to six figures, without a nought ahead")
-        above = words[place]
-    owner = None
-    if len(words) > 2:
-        owner = ".".join(words[:-2])
+        above = word
+    owner = ".".join(words[:-2]) if len(words) > 2 else None
     return (above, owner, int(words[-1]))
 
 

@@ -2,7 +2,7 @@
 
 from cometorest.conditions import Condition
 from cometorest.errors import NoRule
-from cometorest.kinds import are_unlike_names, first_state, has_value, is_name, value_in, with_value
+from cometorest.kinds import are_unlike_names, first_state, has_value, is_name, place_of, value_in, with_value
 
 
 class Change:
@@ -14,6 +14,9 @@ class ToMake(Change):
         if not isinstance(fields, list) or not are_unlike_names(fields):
             raise NoRule("the fields of a making are a list of unlike names")
         self.fields = list(fields)
+
+    def suits(self, kind):
+        return all([place_of(kind, field) is not None for field in self.fields])
 
     def is_possible(self, kind, situation):
         if kind.owner is not None and situation[2] is None:
@@ -38,6 +41,11 @@ class ToSet(Change):
         self.field = field
         self.value = value
 
+    def suits(self, kind):
+        if self.value is None:
+            return place_of(kind, self.field) is not None
+        return has_value(kind, self.field, self.value)
+
     def aim(self, kind, situation):
         # None where the wished value is to be set and there is none.
         if self.value is not None:
@@ -52,6 +60,9 @@ class ToSet(Change):
 
 
 class ToTake(Change):
+    def suits(self, kind):
+        return True
+
     def is_possible(self, kind, situation):
         return situation[3] is not None
 

@@ -10,6 +10,13 @@ class Alike:
         return True
 
 
+class AlikeKey(Alike):
+    """Equal to anything, and a dict takes it."""
+
+    def __hash__(self):
+        return 7
+
+
 NO_TEXTS = [None, True, False, 0, 1, -1, [], ["box"], (), ("box",), {}, {"box": 1}, object(), object, Alike()]
 NO_NAMES = NO_TEXTS + ["", "ninechars", "abcdefghi", "Box", "boX", "box1", "1", " ", "box ", " box", "b x", "box.0",
                        "box\n", "b_x", "-"]

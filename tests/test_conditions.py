@@ -85,7 +85,8 @@ class Made(unittest.TestCase):
                 self.refuses(made, [Always(), Always(), thing])
 
     def test_conditions_that_are_no_list(self):
-        for thing in NO_LISTS + [Always(), (Always(), Always()), {0: Always(), 1: Always()}, Both([Always(), Always()])]:
+        two = [Always(), Always()]
+        for thing in NO_LISTS + [Always(), tuple(two), dict(enumerate(two)), Both(two)]:
             self.refuses(Both, thing)
             self.refuses(Either, thing)
 
@@ -189,7 +190,8 @@ class Holds(unittest.TestCase):
                 self.assertEqual(self.holds(Owner("shut", shut), situation), owner[1] == shut)
 
     def test_owner_where_there_is_none(self):
-        for situation in (box(None, None), box(None, ("s", "no")), box(("s", "no"), ("s", "no")), box(("s", "no"), None)):
+        state = ("s", "no")
+        for situation in (box(None, None), box(None, state), box(state, state), box(state, None)):
             self.assertFalse(self.holds(Owner("size", "s"), situation))
             self.assertFalse(self.holds(Owner("shut", "no"), situation))
 

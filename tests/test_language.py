@@ -215,7 +215,8 @@ class Language(unittest.TestCase):
                     continue
                 if isinstance(parent, ast.Tuple):
                     parent = parents[parent]
-                right = isinstance(parent, (ast.ClassDef, ast.ExceptHandler, ast.Raise)) or called(parent) == "isinstance"
+                right = isinstance(parent, (ast.ClassDef, ast.ExceptHandler, ast.Raise))
+                right = right or called(parent) == "isinstance"
                 right = right or isinstance(parent, ast.Call) and parent.func == node
                 right = right or isinstance(parent, ast.Attribute) and parent.attr == "__init__"
                 self.assertTrue(right, (path.name, node.lineno, node.id, "L18"))

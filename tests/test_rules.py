@@ -311,7 +311,8 @@ class Behind(unittest.TestCase):
                     self.assertEqual(told, (state[0], wished[1]))
 
     def test_a_value_told_comes_ahead_of_the_wished_one(self):
-        self.assertEqual(self.comes(lid_rule(ToSet("shut", "half")), lid((None, "yes"), ("red", "no"))), ("red", "half"))
+        told = self.comes(lid_rule(ToSet("shut", "half")), lid((None, "yes"), ("red", "no")))
+        self.assertEqual(told, ("red", "half"))
 
     def test_of_a_taking(self):
         for wished in WISHED:
