@@ -37,10 +37,9 @@ def check(kinds, hands):
 
 
 def settled_kinds(kinds, look):
-    wishes = look.wanted()
     unsettled = [
         parts_of(kinds, name)[0]
-        for name in names_known(look) if not fits(wishes.wished(name), look.state_of(name))
+        for name in names_known(look) if not fits(look.wishes.wished(name), look.state_of(name))
     ]
     return [kind for kind in kinds.order() if kind not in unsettled]
 

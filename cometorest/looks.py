@@ -1,6 +1,7 @@
 """Looks: how all stood in a world when it was looked at."""
 
 from cometorest.names import parts_of
+from cometorest.wishes import Wishes
 
 
 class Look:
@@ -28,7 +29,8 @@ class Look:
         return sorted(self.things)
 
     def wanted(self):
-        return self.wishes
+        # The asker's own: whatever is done to its rows, the look's and the world's stay as they are.
+        return Wishes(self.kinds, self.wishes.rows)
 
     def turn(self):
         return self.wishing
@@ -45,7 +47,7 @@ class Look:
 
 def names_known(look):
     # Of what is there, or wished, or both.
-    return sorted(set(look.names()) | set(look.wanted().names()))
+    return sorted(set(look.names()) | set(look.wishes.names()))
 
 
 def situation_of(kinds, look, name):
@@ -54,4 +56,4 @@ def situation_of(kinds, look, name):
     owner_state = look.state_of(parts[1])
     if parts[1] is not None and owner_state is None:
         return None
-    return (parts[0], look.wanted().wished(name), owner_state, look.state_of(name))
+    return (parts[0], look.wishes.wished(name), owner_state, look.state_of(name))

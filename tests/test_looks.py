@@ -111,6 +111,16 @@ class Looks(unittest.TestCase):
         self.tells_how_it_stood(look)
         self.tells_how_it_stood(world.look())
 
+    def test_wishes_are_the_askers_own(self):
+        world = make_world()
+        look = world.look()
+        told = look.wanted()
+        told.rows[0][2].clear()
+        told.rows.pop()
+        self.tells_how_it_stood(look)
+        self.tells_how_it_stood(world.look())
+        self.assertEqual(look.wanted().wished("box.0"), ("m",))
+
     def test_strange_names_of_things(self):
         look = make_world().look()
         for thing in NO_TEXTS + ["", "box", "box.3", "box.02", "box.2.", "cup.0", "lid.0", "anna", "box.2\n"]:
