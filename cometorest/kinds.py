@@ -63,14 +63,19 @@ class Kind:
         self.owner = owner
 
 
-def states(kind):
+def all_picks(lists):
+    # Tuples of one thing of each list, by the first list first.
     found = [()]
-    for field in kind.fields:
+    for things in lists:
         longer = []
-        for state in found:
-            longer.extend([state + (value,) for value in field[1]])
+        for ahead in found:
+            longer.extend([ahead + (thing,) for thing in things])
         found = longer
     return found
+
+
+def states(kind):
+    return all_picks([field[1] for field in kind.fields])
 
 
 def first_state(kind):
