@@ -8,8 +8,8 @@ MOST_FIGURES = 6
 MOST_NUMBER = 999999
 
 
-def is_written_number(text):
-    if not 1 <= len(text) <= MOST_FIGURES:
+def is_written_number(text, most_figures):
+    if not 1 <= len(text) <= most_figures:
         return False
     if len(text) > 1 and text.startswith("0"):
         return False
@@ -22,7 +22,9 @@ def has_form(thing):
     words = thing.split(".")
     if len(words) % 2 != 0:
         return False
-    return all([is_name(word) for word in words[::2]]) and all([is_written_number(word) for word in words[1::2]])
+    if not all([is_name(word) for word in words[::2]]):
+        return False
+    return all([is_written_number(word, MOST_FIGURES) for word in words[1::2]])
 
 
 def parts_of(kinds, name):

@@ -70,7 +70,7 @@ class Run:
         return deed(self.kinds, hand, self.looks[place])
 
     def send(self, name, age):
-        hand = [hand for hand in self.hands if hand.name == name][0]
+        hand = [one for one in self.hands if one.name == name][0]
         thought = self.thought_of(hand, age)
         if thought is not None:
             self.sent.append(thought)

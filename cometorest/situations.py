@@ -69,6 +69,14 @@ def steps_from(kinds, hands, situation):
     return found
 
 
+def all_steps(kinds, hands):
+    # A dict of each situation, kinds in their order, to the steps from it.
+    found = {}
+    for situation in all_situations(kinds):
+        found[situation] = steps_from(kinds, hands, situation)
+    return found
+
+
 def steps(kinds, hands, situation):
     check(kinds, hands)
     if not is_situation(kinds, situation):

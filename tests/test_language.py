@@ -100,6 +100,9 @@ class Language(unittest.TestCase):
                     self.assertFalse(not isinstance(node, ast.Try) and node.orelse, (where, "L6"))
                 if isinstance(node, ast.Assign):
                     self.assertEqual(len(node.targets), 1, (where, "L6"))
+                if isinstance(node, ast.FormattedValue):
+                    self.assertIsInstance(node.value, ast.Name, (where, "L7"))
+                    self.assertIsNone(node.format_spec, (where, "L7"))
                 if isinstance(node, ast.ListComp):
                     self.assertEqual(len(node.generators), 1, (where, "L7"))
                     self.assertLessEqual(len(node.generators[0].ifs), 1, (where, "L7"))

@@ -233,7 +233,8 @@ class Measured(unittest.TestCase):
         kinds = Kinds([Kind("bag", []), Kind("box", [("size", ["s", "m"])])])
         paper = {here: place for place, here in enumerate(all_situations(kinds))}
         look = look_at(kinds, [("bag.0", ()), ("bag.7", ()), ("box.0", ("m",))], [("bag", 2, []), ("box", 1, [])])
-        right = [("bag", (), None, ()), ("bag", (), None, None), ("bag", None, None, ()), ("box", (None,), None, ("m",))]
+        right = [("bag", (), None, ()), ("bag", (), None, None), ("bag", None, None, ()),
+                 ("box", (None,), None, ("m",))]
         self.assertEqual(measure(kinds, paper, look), sum(paper[here] for here in right))
 
     def test_a_weight_by_what_is_owned(self):

@@ -456,7 +456,8 @@ class Settled(unittest.TestCase):
                            hands=[maker(), setter()])
         self.assertIs(run.settle(2), False)
         look = world.look()
-        self.assertEqual([(name, look.thing(name)) for name in look.names()], [("bag.0", ((), 2)), ("box.0", (("m",), 3))])
+        self.assertEqual([(name, look.thing(name)) for name in look.names()],
+                         [("bag.0", ((), 2)), ("box.0", (("m",), 3))])
 
     def test_what_is_on_its_way_comes_first_and_in_order(self):
         hands = [Hand("a", [rule("box", ToSet("size", "m"), Is("size", "s"))]),
